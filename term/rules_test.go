@@ -4,6 +4,7 @@ import (
 	"math"
 	"slices"
 	"testing"
+	"unsafe"
 
 	"rookery/api"
 	"rookery/term"
@@ -133,6 +134,19 @@ func TestR4AnswersApart(t *testing.T) {
 	want(t, "R4: two parts", parts[1], inner)
 	scramble(&parts[1])
 	want(t, "R4: two parts", parts[4], inner)
+}
+
+// A copy's names stand in memory of its own too.
+func TestR4CopyHasItsOwnNames(t *testing.T) {
+	for _, x := range samples() {
+		given, _ := partsOf(x, 1)
+		copied, _ := partsOf(term.Copy(x), 1)
+		for i, p := range copied {
+			if p.S != "" && unsafe.StringData(p.S) == unsafe.StringData(given[i].S) {
+				t.Errorf("R4: Copy shares the name %q", p.S)
+			}
+		}
+	}
 }
 
 // P1: what is great without end, or holds itself, is no harm.
